@@ -1,5 +1,8 @@
 """What was booked for a quarter, held against what's owed by what's told now."""
 
+from quarterhouse.quarter import owed_now
+from quarterhouse.state import QuarterNow
+
 
 def growth(before, after):
     """By how much each number has grown; one that wasn't there before has grown from 0."""
@@ -7,8 +10,10 @@ def growth(before, after):
     return [number - earlier for number, earlier in zip(after, known, strict=True)]
 
 
-def is_same(before, after):
-    return all([number == 0 for number in growth(before, after)])
+def is_pending(house, quarter):
+    """Whether what somebody owes by what's told now isn't what's booked for the quarter."""
+    owed = owed_now(QuarterNow(house, quarter))
+    return any([number != 0 for number in growth(house.booked[quarter], owed)])
 
 
 def listed(numbers):

@@ -1,6 +1,6 @@
 """The calls that change a house; each answers a list of numbers, and a refused one changes nothing."""
 
-from quarterhouse.bookings import growth, is_same, listed
+from quarterhouse.bookings import growth, is_pending, listed
 from quarterhouse.limits import (
     ACCEPTED, FULL, HIGH_BELOW_LOW, LOCKED, MOST_BOOKED, MOST_ENTRIES, MOST_HANDS, MOST_RESERVES,
     MOST_RESERVES_TOLD, NO_SUCH_HAND, NO_SUCH_RESERVE, NOT_AS_BOOKED, OPEN_ALREADY, PRICE_BEYOND_RULES, SAME_HAND,
@@ -100,7 +100,7 @@ def lock(house, quarter):
         return [NOT_AS_BOOKED]
     if is_locked(house, quarter):
         return [LOCKED]
-    if not is_same(house.booked[quarter], owed_now(QuarterNow(house, quarter))):
+    if is_pending(house, quarter):
         return [NOT_AS_BOOKED]
     house.locked[quarter] = True
     return [ACCEPTED]

@@ -1,14 +1,17 @@
 """The calls on one house, one behind another in one list, and what they answer."""
 
-from quarterhouse.asks import ask_matched, ask_position
+from quarterhouse.asks import (
+    ask_account, ask_booked, ask_fresh, ask_imbalance, ask_matched, ask_merit, ask_parts, ask_pending, ask_position,
+    ask_prices, ask_split, ask_sums, ask_system, ask_unmatched,
+)
 from quarterhouse.changes import (
     add_hand, add_reserve, begin, drop_reserve, lock, nominate, settle, tell_ahead, tell_of_hand,
 )
 from quarterhouse.limits import (
-    AHEAD, ARGUMENTS, HAND, MARKET, METER, NOMINATE, NOT_OPEN, OPEN, OUT_OF_RANGE, POSITION, RANGES,
-    RESERVE, SETTLE, UNRESERVE,
+    ACCOUNT, AHEAD, ARGUMENTS, BOOKED, FRESH, HAND, IMBALANCE, MARKET, MATCHED, MERIT, METER, NO_SUCH_HAND, NOMINATE,
+    NOT_OPEN, OPEN, OUT_OF_RANGE, PARTS, PENDING, POSITION, PRICES, RANGES, RESERVE, SETTLE, SPLIT, SUMS, UNRESERVE,
 )
-from quarterhouse.state import House, Reserve, Rules, market_key, metered_key, weight_key
+from quarterhouse.state import House, QuarterNow, Reserve, Rules, has_hand, market_key, metered_key, weight_key
 
 
 def answers(calls):
@@ -17,17 +20,24 @@ def answers(calls):
     answered = []
     place = 0
     while place < len(calls):
-        number = calls[place]
-        end = place + 1 + len(ARGUMENTS[number])
-        answer = answer_of(house, number, calls[place + 1:end])
+        end = end_of_call(calls, place)
+        answer = answer_of(house, calls[place], calls[place + 1:end])
         answered.append(len(answer))
         answered.extend(answer)
         place = end
     return answered
 
 
+def end_of_call(calls, place):
+    """Where the next call stands; a split's weights stand behind its arguments, the last of which is their count."""
+    end = place + 1 + len(ARGUMENTS[calls[place]])
+    if calls[place] == SPLIT:
+        return end + calls[end - 1]
+    return end
+
+
 def answer_of(house, number, given):
-    if not all_within(ARGUMENTS[number], given):
+    if not all_within(number, given):
         return [OUT_OF_RANGE]
     if number == OPEN:
         return begin(house, Rules(given[0], given[1], given[2], given[3], given[4], given[5]))
@@ -40,8 +50,11 @@ def answer_of(house, number, given):
     return answer_asking(house, number, given)
 
 
-def all_within(kinds, given):
-    return all([is_within(RANGES[kind], number) for kind, number in zip(kinds, given, strict=True)])
+def all_within(number, given):
+    kinds = ARGUMENTS[number]
+    # What stands behind a call's own arguments can only be weights.
+    kinds = kinds + ("weight",) * (len(given) - len(kinds))
+    return all([is_within(RANGES[kind], argument) for kind, argument in zip(kinds, given, strict=True)])
 
 
 def is_within(bounds, number):
@@ -79,6 +92,44 @@ def answer_booking(house, number, given):
 
 
 def answer_asking(house, number, given):
+    if ARGUMENTS[number] == ("hand", "quarter"):
+        return answer_of_hand(house, number, given[0], given[1])
+    if ARGUMENTS[number] == ("quarter",):
+        return answer_of_quarter(house, number, given[0])
+    if number == MATCHED:
+        return ask_matched(house, given[0], given[1], given[2])
+    if number == ACCOUNT:
+        return ask_account(house, given[0])
+    if number == PENDING:
+        return ask_pending(house)
+    if number == SUMS:
+        return ask_sums(house)
+    return ask_split(given[0], given[2:])
+
+
+def answer_of_hand(house, number, hand, quarter):
+    """The calls that ask of one hand in one quarter."""
+    if not has_hand(house, hand):
+        return [NO_SUCH_HAND]
+    now = QuarterNow(house, quarter)
     if number == POSITION:
-        return ask_position(house, given[0], given[1])
-    return ask_matched(house, given[0], given[1], given[2])
+        return ask_position(now, hand)
+    if number == IMBALANCE:
+        return ask_imbalance(now, hand)
+    if number == PARTS:
+        return ask_parts(now, hand)
+    return ask_unmatched(now, hand)
+
+
+def answer_of_quarter(house, number, quarter):
+    """The calls that ask of one quarter."""
+    if number == BOOKED:
+        return ask_booked(house, quarter)
+    if number == MERIT:
+        return ask_merit(house, quarter)
+    now = QuarterNow(house, quarter)
+    if number == PRICES:
+        return ask_prices(now)
+    if number == FRESH:
+        return ask_fresh(now)
+    return ask_system(now)

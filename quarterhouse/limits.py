@@ -13,6 +13,18 @@ SETTLE = 9
 LOCK = 10
 POSITION = 11
 MATCHED = 12
+IMBALANCE = 13
+PRICES = 14
+FRESH = 15
+PARTS = 16
+BOOKED = 17
+ACCOUNT = 18
+MERIT = 19
+SYSTEM = 20
+UNMATCHED = 21
+PENDING = 22
+SUMS = 23
+SPLIT = 24
 
 ARGUMENTS = {
     0: ("flag", "flag", "price", "price", "threshold", "add_on"),
@@ -28,6 +40,18 @@ ARGUMENTS = {
     10: ("quarter",),
     11: ("hand", "quarter"),
     12: ("hand", "hand", "quarter"),
+    13: ("hand", "quarter"),
+    14: ("quarter",),
+    15: ("quarter",),
+    16: ("hand", "quarter"),
+    17: ("quarter",),
+    18: ("hand or nobody",),
+    19: ("quarter",),
+    20: ("quarter",),
+    21: ("hand", "quarter"),
+    22: (),
+    23: (),
+    24: ("whole", "how many weights"),
 }
 
 RANGES = {
@@ -41,6 +65,9 @@ RANGES = {
     "add_on": (0, 1000000),
     "much": (1, 1000000000),
     "reserve": (1, 1000000000),
+    "hand or nobody": (0, 32),
+    "whole": (-1000000000000, 1000000000000),
+    "how many weights": (1, 32),
 }
 
 MOST_HANDS = 32

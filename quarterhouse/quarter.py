@@ -46,8 +46,12 @@ def surplus_up(calls):
     return amount_called(calls, 1) - amount_called(calls, 0)
 
 
+def called(now, hand):
+    return surplus_up(own_calls(now, hand))
+
+
 def imbalance(now, hand):
-    return entry(now, metered_key(hand)) - position(now, hand) - surplus_up(own_calls(now, hand))
+    return entry(now, metered_key(hand)) - position(now, hand) - called(now, hand)
 
 
 def brought_within(rules, price):
@@ -118,17 +122,29 @@ def owed_for_reserve(now, hand):
     return paid - got
 
 
+def gross_of(now, hand, prices):
+    # A hand of which nothing was told owes nothing; that's not worked out, as pending asks it of many in many quarters.
+    if hand not in now.hands_told:
+        return 0
+    return owed_for_imbalance(now, hand, prices) + owed_for_reserve(now, hand)
+
+
 def gross_of_hands(now):
     prices = prices_of(now)
-    return [owed_for_imbalance(now, hand, prices) + owed_for_reserve(now, hand) for hand in hand_numbers(now)]
+    return [gross_of(now, hand, prices) for hand in hand_numbers(now)]
+
+
+def weights_of_hands(now):
+    return [entry(now, weight_key(hand)) for hand in hand_numbers(now)]
+
+
+def shares_of_rest(now, gross):
+    return shared(-sum(gross), weights_of_hands(now))
 
 
 def owed_now(now):
     """What nobody owes, then what each hand owes, in order of number; together that makes 0."""
     gross = gross_of_hands(now)
-    rest = -sum(gross)
-    weights = [entry(now, weight_key(hand)) for hand in hand_numbers(now)]
-    if sum(weights) == 0:
-        return [rest] + gross
-    shares = shared(rest, weights)
-    return [0] + [own + share for own, share in zip(gross, shares, strict=True)]
+    owed = [own + share for own, share in zip(gross, shares_of_rest(now, gross), strict=True)]
+    # With a weight the hands make 0 among themselves; without one the rest isn't shared and is nobody's.
+    return [-sum(owed)] + owed

@@ -2,7 +2,9 @@
 
 
 def shared(whole, weights):
-    """The weights' sum isn't 0; of a whole below 0 each gets minus what it would get of the whole above 0."""
+    """Of a whole below 0 each gets minus what it would get of the whole above 0; without any weight nobody gets any."""
+    if sum(weights) == 0:
+        return [0] * len(weights)
     if whole < 0:
         return [-share for share in shared_above(-whole, weights)]
     return shared_above(whole, weights)

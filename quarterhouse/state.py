@@ -48,6 +48,7 @@ class QuarterNow:
         self.hands = house.hands
         self.entries = house.entries.get(quarter, {})
         self.calls = [call for call in house.reserves.values() if call.quarter == quarter]
+        self.hands_told = [key[1] for key in self.entries] + [call.hand for call in self.calls]
 
 
 def market_key(hand):

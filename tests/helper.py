@@ -6,6 +6,8 @@ from quarterhouse.house import answers
 
 OPEN, HAND, MARKET, METER, WEIGHT, AHEAD, NOMINATE = range(7)
 RESERVE, UNRESERVE, SETTLE, LOCK, POSITION, MATCHED = range(7, 13)
+IMBALANCE, PRICES, FRESH, PARTS, BOOKED, ACCOUNT = range(13, 19)
+MERIT, SYSTEM, UNMATCHED, PENDING, SUMS, SPLIT = range(19, 25)
 UP, DOWN = 1, 0
 BILLION = 10 ** 9
 
@@ -17,6 +19,10 @@ def opening(means=0, two_prices=0, low=-1000000, high=1000000, threshold=0, add_
 def house(hands=3, **rules):
     """The calls that make an open house with so many hands."""
     return [opening(**rules)] + [(HAND,)] * hands
+
+
+def splitting(whole, weights):
+    return (SPLIT, whole, len(weights), *weights)
 
 
 def flat(calls):

@@ -89,6 +89,12 @@ class Language(unittest.TestCase):
             self.assertLessEqual(len(node.generators[0].ifs), 1, (name, node.lineno))
         self.assertEqual(nodes(ast.Div), [])
 
+    def test_is_stands_beside_none_true_and_false_alone(self):
+        for name, node in nodes(ast.Compare):
+            if isinstance(node.ops[0], (ast.Is, ast.IsNot)):
+                self.assertIsInstance(node.comparators[0], ast.Constant, (name, node.lineno))
+                self.assertIn(node.comparators[0].value, (None, True, False), (name, node.lineno))
+
     def test_imports(self):
         defined = {
             file.stem: [node.name for node in tree.body if isinstance(node, (ast.FunctionDef, ast.ClassDef))]
@@ -102,6 +108,17 @@ class Language(unittest.TestCase):
             for found in node.names:
                 self.assertIn(found.name, defined[module], (name, node.lineno))
                 self.assertIsNone(found.asname)
+
+    def test_no_two_files_draw_from_one_another(self):
+        drawn = {
+            file.stem: {node.module.split(".")[1] for node in tree.body if isinstance(node, ast.ImportFrom)}
+            for file, tree in trees()
+        }
+        while drawn:
+            free = [file for file, others in drawn.items() if not others & set(drawn)]
+            self.assertNotEqual(free, [], drawn)
+            for file in free:
+                drawn.pop(file)
 
     def test_names(self):
         for file, tree in trees():
